@@ -1,0 +1,1 @@
+"""Keptnomore: standing questions over nested documents that are still coming."""
