@@ -131,8 +131,8 @@ class Kinds:
     def __init__(self, rows):
         self.words = tuple([row.kind for row in rows])
         self.names = tuple(sorted({name for row in rows for name in row.names if is_name(name)}))
-        self._rows = tuple(rows)
-        self._atoms = tuple(sorted({atom for row in rows for atom in row.unlike_atoms()}))
+        self.rows = tuple(rows)
+        self.atoms = tuple(sorted({atom for row in rows for atom in row.unlike_atoms()}))
         self._text = "\n".join([row.line() for row in rows])
 
     @staticmethod
@@ -181,11 +181,12 @@ class Kinds:
         return found
 
     def _kinds_at(self, name, children, below):
-        truths = {text: is_atom_true(text.split(" "), children, below) for text in self._atoms}
-        return tuple([row.kind for row in self._rows if self._has_name(row, name)
+        truths = {text: is_atom_true(text.split(" "), children, below) for text in self.atoms}
+        return tuple([row.kind for row in self.rows if self.has_name(row, name)
                       and (row.condition is None or holds(row.condition, truths))])
 
-    def _has_name(self, row, name):
+    def has_name(self, row, name):
+        """Whether the name is among the NAMES of a row."""
         if name in row.names or "any" in row.names:
             return True
         return "other" in row.names and name not in self.names

@@ -87,7 +87,7 @@ class Question:
     """A question, which asks the same at every node."""
 
     def __init__(self, part):
-        self._part = part
+        self.part = part
         self._text = text_of(part)
 
     @staticmethod
@@ -111,18 +111,22 @@ class Question:
         return isinstance(other, Question) and self._text == other._text
 
     def __and__(self, other):
-        return question_of(joined("and", [self._part, other._part]))
+        return question_of(joined("and", [self.part, other.part]))
 
     def __or__(self, other):
-        return question_of(joined("or", [self._part, other._part]))
+        return question_of(joined("or", [self.part, other.part]))
 
     def __invert__(self):
-        return question_of(("not", self._part))
+        return question_of(("not", self.part))
 
-    def picks(self, kinds, tree):
-        """The ascending marks of the nodes that the question selects."""
+    def refuse_unknown(self, kinds):
+        """Raises UnknownKind for the first kind name in the text that is none of the kinds."""
         for word in words_in(self._text):
             if is_kind_name(word) and word not in kinds:
                 raise UnknownKind(word)
-        truths = Surroundings(kinds, tree).all_truths(self._part)
-        return sorted([node.mark for node, told in zip(list(tree), truths) if holds(self._part, told)])
+
+    def picks(self, kinds, tree):
+        """The ascending marks of the nodes that the question selects."""
+        self.refuse_unknown(kinds)
+        truths = Surroundings(kinds, tree).all_truths(self.part)
+        return sorted([node.mark for node, told in zip(list(tree), truths) if holds(self.part, told)])

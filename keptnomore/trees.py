@@ -90,23 +90,30 @@ class Tree:
         return isinstance(other, Tree) and self.outline() == other.outline()
 
     def __str__(self):
-        return " ".join([word_of(event) for event in self.events()])
+        return " ".join([word_of(event) for event in self.listed()])
 
     def outline(self):
         """All that makes two trees equal; a list, since comparing within one another fails for deep trees."""
         return [(node.name, node.mark, len(node.children)) for node in self._nodes]
 
-    def events(self):
-        """The events of the tree, one after another."""
+    def listed(self):
+        """The list of its events."""
+        found = []
         waiting = [self]
         while waiting:
             node = waiting.pop()
             if node is None:
-                yield ("close",)
+                found.append(("close",))
             else:
-                yield ("open", node.name, node.mark)
+                found.append(("open", node.name, node.mark))
                 waiting.append(None)
                 waiting.extend(node.children[::-1])
+        return found
+
+    def events(self):
+        """The events of the tree, one after another."""
+        for event in self.listed():
+            yield event
 
     @staticmethod
     def read(text):

@@ -1,6 +1,7 @@
 """[45] The names in the modules, and that each class has itself what the interface lists for it."""
 
 import ast
+import doctest
 import importlib
 import inspect
 import os
@@ -16,7 +17,15 @@ MODULES = {
                "NotPending"),
     "trees": ("Tree", "words_of", "events_of"),
     "kinds": ("Kinds",),
+    "rules": ("Rules",),
     "questions": ("Question",),
+    "spaces": ("Space",),
+    "houses": ("House",),
+    "partings": ("width",),
+    "papers": ("Paper",),
+    "bundles": ("Bundle",),
+    "compared": ("says", "parted", "stricter", "let_apart"),
+    "desk": ("Desk",),
 }
 
 # What the interface lists for a class, with the names of the arguments.
@@ -30,7 +39,34 @@ METHODS = {
     ("questions", "Question"): {
         "read": ("text",), "__str__": (), "__eq__": None, "__and__": None, "__or__": None, "__invert__": (),
         "picks": ("kinds", "tree")},
+    ("rules", "Rules"): {
+        "read": ("text",), "__str__": (), "__eq__": None, "lets": ("kinds", "tree")},
+    ("spaces", "Space"): {
+        "__init__": ("kinds", "rules", "questions"), "__eq__": None, "__len__": (), "kinds": None, "rules": None,
+        "questions": None},
+    ("houses", "House"): {
+        "__init__": ("space",), "take": ("event",), "__call__": ("event",), "run": ("events",), "over": ("events",),
+        "pending": (), "heaps": (), "may": (), "depth": None, "is_resting": None, "ending": ("free",), "copied": (),
+        "trial": (), "tried": ("work",), "is_alike": ("other",), "space": None, "kept": (), "read": ("space", "text"),
+        "parting": ("other", "free"), "shortest": ("free",), "without": ("number",), "hopes": (),
+        "why": ("question", "mark", "free"), "put": ("bundle",)},
+    ("papers", "Paper"): {
+        "__init__": ("question", "mark", "yes", "no"), "__eq__": None, "holds": ("space", "events")},
+    ("bundles", "Bundle"): {
+        "__init__": ("space", "events"), "space": None, "trees": None, "__iter__": (), "__len__": (), "__str__": (),
+        "read": ("space", "text"), "glued": ("other",), "is_like": ("other",), "unlike": ("other", "free")},
+    ("desk", "Desk"): {"__init__": (), "say": ("row",), "__len__": ()},
 }
+
+FUNCTIONS = {
+    ("trees", "words_of"): ("events",), ("trees", "events_of"): ("text",), ("partings", "width"): ("space", "depth"),
+    ("compared", "says"): ("space", "one", "other"), ("compared", "parted"): ("space", "one", "other", "free"),
+    ("compared", "stricter"): ("kinds", "one", "other"), ("compared", "let_apart"): ("kinds", "one", "other", "free"),
+}
+
+PROPERTIES = (("spaces", "Space", "kinds"), ("spaces", "Space", "rules"), ("spaces", "Space", "questions"),
+              ("houses", "House", "depth"), ("houses", "House", "is_resting"), ("houses", "House", "space"),
+              ("bundles", "Bundle", "space"), ("bundles", "Bundle", "trees"))
 
 
 def module_named(name):
@@ -63,14 +99,32 @@ class Names(unittest.TestCase):
                         self.assertEqual([word for word in given if word != "self"], list(arguments))
 
     def test_arguments_of_functions(self):
-        trees = module_named("trees")
-        self.assertEqual(list(inspect.signature(trees.words_of).parameters), ["events"])
-        self.assertEqual(list(inspect.signature(trees.events_of).parameters), ["text"])
+        for (module, name), arguments in FUNCTIONS.items():
+            with self.subTest(name):
+                given = inspect.signature(getattr(module_named(module), name)).parameters
+                self.assertEqual(list(given), list(arguments))
+
+    def test_free_is_passed_by_name(self):
+        works = [getattr(module_named(module), name) for module, name in FUNCTIONS]
+        works += [getattr(getattr(module_named(module), name), method)
+                  for (module, name), methods in METHODS.items() for method in methods]
+        found = 0
+        for work in works:
+            if callable(work) and "free" in inspect.signature(work).parameters:
+                self.assertEqual(inspect.signature(work).parameters["free"].kind, inspect.Parameter.KEYWORD_ONLY)
+                found += 1
+        self.assertEqual(found, 7)
+
+    def test_properties(self):
+        for module, name, word in PROPERTIES:
+            with self.subTest(f"{name}.{word}"):
+                self.assertIsInstance(vars(getattr(module_named(module), name))[word], property)
 
     def test_reading_needs_no_object(self):
         self.assertEqual(str(module_named("trees").Tree.read("a:1 /")), "a:1 /")
         self.assertEqual(str(module_named("kinds").Kinds.read("kind A of a")), "kind A of a")
         self.assertEqual(str(module_named("questions").Question.read("root")), "root")
+        self.assertEqual(str(module_named("rules").Rules.read("all A")), "all A")
 
     def test_the_package_file_has_only_a_docstring(self):
         body = body_of(os.path.join(FOLDER, "__init__.py"))
@@ -78,6 +132,14 @@ class Names(unittest.TestCase):
         self.assertIsInstance(body[0], ast.Expr)
         self.assertIsInstance(body[0].value.value, str)
         self.assertTrue(keptnomore.__doc__)
+
+
+class Readme(unittest.TestCase):
+    def test_its_examples(self):
+        path = os.path.join(os.path.dirname(FOLDER), "README.md")
+        failed, tried = doctest.testfile(path, module_relative=False, encoding="utf-8")
+        self.assertEqual(failed, 0)
+        self.assertGreater(tried, 10)
 
 
 class Files(unittest.TestCase):
