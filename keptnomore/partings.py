@@ -55,9 +55,10 @@ def shortest_plan(bases, depth, goal):
     """The plan of a past with as few events as possible that leads to a base; it has so many open nodes."""
     layers = needed_layers(bases, depth, goal)
     done = {}
-    queue = [(0, 0, REST, ())]
+    # The numbers of bases hang on what was asked before, so they stand last and settle nothing.
+    queue = [(0, 0, (), REST)]
     while queue:
-        cost, level, base, plan = heappop(queue)
+        cost, level, plan, base = heappop(queue)
         if base == goal:
             return [bases.machine.names[step] if is_sort else step for is_sort, step in plan]
         if base in done:
@@ -67,12 +68,12 @@ def shortest_plan(bases, depth, goal):
             for letter in bases.machine.cheapest:
                 place = bases.moved(base, letter)
                 if place != NONE and place not in done:
-                    heappush(queue, (cost + 2 * bases.machine.costs[letter], level, place, plan + ((0, letter),)))
+                    heappush(queue, (cost + 2 * bases.machine.costs[letter], level, plan + ((0, letter),), place))
         # Without this a search in a great space would go through very many bases that lead elsewhere.
         if level < depth and can_lead(bases, base, layers[level]):
             for sort in range(len(bases.machine.names)):
                 if bases.is_let(base, sort):
-                    heappush(queue, (cost + 1, level + 1, bases.pushed(base, sort), plan + ((1, sort),)))
+                    heappush(queue, (cost + 1, level + 1, plan + ((1, sort),), bases.pushed(base, sort)))
     return []
 
 

@@ -133,7 +133,7 @@ class Refusals(unittest.TestCase):
                     "may  ", "kinds", "rules", "ask", "take", "put", "drop", "drop ", "drop x", "drop 00", "drop 01",
                     "drop -1", "drop 2", "drop 0 ", "drop 0 1", "drop  0", "drop 1234567890123", "ending", "ending ",
                     "ending x", "ending 1 2", "ending -1", "ending 05", "why", "why ", "why 0 2", "why 0 2 ", "why 0 2 9 9",
-                    "why 0  2 9", "why a 2 9", "why 0 2 09", "why  0 2 9", "tell x", "open x:1", "none", "ok", "take\n",
+                    "why 0  2 9", "tell 5", "kept 1", "x 1 2 3", "why a 2 9", "why 0 2 09", "why  0 2 9", "tell x", "open x:1", "none", "ok", "take\n",
                     "begin\n", "kinds\nkind A of a", None, 1, True, ["begin"], ("begin",), {}, b"begin"):
             self.assert_raises(desk_of(*SET, "take x:1 x:2"), row, NoCommand, row=row)
 

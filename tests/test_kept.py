@@ -2,9 +2,12 @@
 
 import unittest
 
+from keptnomore.bundles import Bundle
+from keptnomore.compared import parted, says
 from keptnomore.errors import OtherSpace, Refused
 from keptnomore.houses import House
 from keptnomore.kinds import Kinds
+from keptnomore.partings import width
 from keptnomore.questions import Question
 from keptnomore.rules import Rules
 from keptnomore.spaces import Space
@@ -268,6 +271,46 @@ class ByHand(Base):
         one, other = house_in(space, "x:1"), house_in(space, "x:1 x:2 /")
         self.assertEqual(one.parting(other=other, free=5), one.parting(other, free=5))
         self.assert_alike(House.read(space=space, text=other.kept()), other)
+
+
+class Asked(Base):
+    """[2] The same call returns an equal result, whatever is called in between."""
+
+    def ask(self, house, other, bundles):
+        found = [house.kept(), house.pending(), house.heaps(), house.may(), house.hopes(), house.depth,
+                 house.is_resting, house.ending(free=50), house.is_alike(other), house.parting(other, free=60)]
+        found.extend([house.why(question, mark, free=70) for question, mark in house.pending()])
+        found.extend([house.without(number).kept() for number in range(len(house.space))])
+        if house.depth <= 3:
+            found.append(house.shortest(free=80))
+        found.extend([width(house.space, depth) for depth in (0, 1)])
+        found.extend([bundles[0].is_like(bundles[1]), bundles[0].unlike(bundles[1], free=90), str(bundles[0])])
+        for one in range(len(house.space)):
+            found.extend([says(house.space, one, 0), parted(house.space, one, 0, free=95)])
+        return found
+
+    def test_the_same_calls(self):
+        for seed in range(25):
+            rng = seeded("asked", seed)
+            space = drawn_space(rng, most=48, questions=(1, 3))
+            house, other = House(space), House(space)
+            house.run(drawn_events(rng, house, rng.randint(1, 8), free=100))
+            other.run(drawn_events(rng, other, rng.randint(1, 8), free=100))
+            names = names_of(space)
+            bundles = [Bundle(space, [("open", rng.choice(names), 1), ("open", rng.choice(names), 2), CLOSE, CLOSE])
+                       for _ in range(2)]
+            first = self.ask(house, other, bundles)
+            for _ in range(3):
+                other.tried(lambda one: played(one, drawn_row(rng, names, 12)))
+                house.copied().run(house.ending(free=200))
+                more = House(space)
+                more.run(drawn_events(rng, more, 8))
+                self.ask(more, other, bundles[::-1])
+            self.assertEqual(self.ask(house, other, bundles), first)
+            # What was worked out before for the space makes no difference either.
+            fresh = Space(space.kinds, space.rules, space.questions)
+            again = [House.read(fresh, one.kept()) for one in (house, other)]
+            self.assertEqual(self.ask(again[0], again[1], [Bundle.read(fresh, str(one)) for one in bundles]), first)
 
 
 class Without(Base):
