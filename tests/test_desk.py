@@ -141,6 +141,7 @@ class Refusals(unittest.TestCase):
         desk = desk_of(*SET[:-1])
         for row in ("kept", "take ", "take x", "put ", "put x", "pending", "heaps", "may", "ending 1", "why 0 1 2"):
             self.assert_raises(desk, row, NoCommand, row=row)
+            self.assert_raises(Desk(), row, NoCommand, row=row)
 
     def test_exceptions_of_what_it_calls(self):
         desk = desk_of(*SET, "take x:1 x:2")
