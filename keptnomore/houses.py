@@ -18,14 +18,16 @@ class Trial:
 
     def __init__(self, house):
         self._house = house
+        self._states = house.states
         self._held = None
 
     def __enter__(self):
-        self._held = self._house.state
+        self._held = self._states[0]
         return self._house
 
     def __exit__(self, kind, value, trace):
-        self._house.state = self._held
+        self._states.clear()
+        self._states.append(self._held)
 
 
 class House:
@@ -34,13 +36,14 @@ class House:
     def __init__(self, space):
         self._space = space
         self._bases = space.bases()
-        self.state = AT_REST
+        # A list with the state alone: a trial puts back what is in it.
+        self.states = [AT_REST]
 
     @staticmethod
     def read(space, text):
         """A house that is alike to the one whose text it is."""
         house = House(space)
-        house.state = Reading(space.bases(), text).whole()
+        house.states[0] = Reading(space.bases(), text).whole()
         return house
 
     @property
@@ -51,27 +54,27 @@ class House:
     @property
     def depth(self):
         """The number of open nodes."""
-        return self.state[0]
+        return self.states[0][0]
 
     @property
     def is_resting(self):
         """Whether no node is open."""
-        return self.state[0] == 0
+        return self.states[0][0] == 0
 
     def __call__(self, event):
         return self.take(event)
 
     def take(self, event):
         """Takes an event, and returns the pairs of the nodes that are sure now."""
-        found = self._after(self.state, event)
+        found = self._after(self.states[0], event)
         if found is None:
             raise Refused(event)
-        self.state, told = found
+        self.states[0], told = found
         return told
 
     def run(self, events):
         """Takes a row of events, or none of them, and returns what each one told, with its index."""
-        state = self.state
+        state = self.states[0]
         triples = []
         for at, event in enumerate(list(events)):
             found = self._after(state, event)
@@ -79,7 +82,7 @@ class House:
                 raise RefusedAt(at)
             state, told = found
             triples.extend([(at, question, mark) for question, mark in told])
-        self.state = state
+        self.states[0] = state
         return triples
 
     def over(self, events):
@@ -134,16 +137,16 @@ class House:
 
     def pending(self):
         """The ascending pairs of all pending nodes."""
-        return sorted([(number, mark) for number, _, marks in self.state[2] for mark in marks])
+        return sorted([(number, mark) for number, _, marks in self.states[0][2] for mark in marks])
 
     def heaps(self):
         """The ascending pairs of a question and the marks of nodes that only go together."""
-        return [(number, marks) for number, _, marks in self.state[2]]
+        return [(number, marks) for number, _, marks in self.states[0][2]]
 
     def may(self):
         """The words for what is allowed."""
         machine = self._bases.machine
-        base = self.state[1]
+        base = self.states[0][1]
         lets = [self._bases.is_let(base, sort) for sort in range(len(machine.names))]
         words = [name for name in self._space.kinds.names if lets[machine.sort_of(name)]]
         if lets[machine.other_sort]:
@@ -154,13 +157,13 @@ class House:
 
     def ending(self, *, free):
         """A going on with as few events as possible."""
-        plan = self._bases.functions.going_on(self._bases.allowing[self.state[1]], 0)
+        plan = self._bases.functions.going_on(self._bases.allowing[self.states[0][1]], 0)
         return events_of_plan(self._bases.machine, plan, free)
 
     def copied(self):
         """An independent house in the same state."""
         house = House(self._space)
-        house.state = self.state
+        house.states[0] = self.states[0]
         return house
 
     def trial(self):
@@ -174,7 +177,7 @@ class House:
 
     def kept(self):
         """The text of the state."""
-        return Listing(self._bases, self.state).text()
+        return Listing(self._bases, self.states[0]).text()
 
     def is_alike(self, other):
         """Whether the spaces are equal, and nothing parts the houses."""
@@ -186,7 +189,7 @@ class House:
         """Events with which the houses part, or None."""
         if not self._space == other.space:
             raise OtherSpace()
-        one = self.state
+        one = self.states[0]
         two = Reading(self._bases, other.kept()).whole()
         if one[0] != two[0]:
             return self._parting_by_depth(other, free)
@@ -209,22 +212,22 @@ class House:
 
     def shortest(self, *, free):
         """A past with as few events as possible that leads to a house alike for nodes to come."""
-        plan = shortest_plan(self._bases, self.state[0], self.state[1])
+        plan = shortest_plan(self._bases, self.states[0][0], self.states[0][1])
         return events_of_plan(self._bases.machine, plan, free)
 
     def without(self, number):
         """A house of the space without a question, as if it had taken the same past there."""
         house = House(self._space.without(number))
-        house.state = Moving(self._bases, house.space.bases(), number).whole(self.state)
+        house.states[0] = Moving(self._bases, house.space.bases(), number).whole(self.states[0])
         return house
 
     def hopes(self):
         """The ascending numbers of the questions for which a node can still be told."""
-        return sorted(set([number for number, _, _ in self.state[2]] + self._bases.hopes(self.state[1])))
+        return sorted(set([number for number, _, _ in self.states[0][2]] + self._bases.hopes(self.states[0][1])))
 
     def why(self, question, mark, *, free):
         """The paper that shows that a node is pending."""
-        found = [function for number, function, marks in self.state[2] if number == question and mark in marks]
+        found = [function for number, function, marks in self.states[0][2] if number == question and mark in marks]
         if not found:
             raise NotPending(question, mark)
         functions = self._bases.functions
@@ -237,7 +240,7 @@ class House:
             raise OtherSpace()
         if self.is_resting:
             raise Resting()
-        state = self.state
+        state = self.states[0]
         pairs = []
         for event in bundle.listed():
             found = self._after(state, event)
@@ -245,5 +248,5 @@ class House:
                 raise Refused(bundle)
             state, told = found
             pairs.extend(told)
-        self.state = state
+        self.states[0] = state
         return sorted(pairs)
